@@ -1,0 +1,1 @@
+"""Forecasters who say chances of rain, and what can have come true."""
