@@ -2,10 +2,9 @@
 
 from math import gcd
 
+from saidchances.decimals import integer_of, is_digits, notation
 from saidchances.errors import BadNumber, BadText, ByZero
 from saidchances.kinds import is_integer
-
-DIGITS = "0123456789"
 
 
 class Ratio:
@@ -52,8 +51,8 @@ class Ratio:
 
     def __str__(self):
         if self._bottom == 1:
-            return str(self._top)
-        return f"{self._top}/{self._bottom}"
+            return f"{notation(self._top)}"
+        return f"{notation(self._top)}/{notation(self._bottom)}"
 
     def over(self, number):
         """The quotient by a number."""
@@ -74,21 +73,18 @@ class Ratio:
         """The Ratio with a text."""
         if not isinstance(text, str):
             raise BadText()
-        top, slash, bottom = text.partition("/")
+        front, slash, bottom = text.partition("/")
         if slash == "":
             bottom = "1"
-        if not is_digits(top.removeprefix("-")) or not is_digits(bottom) or int(bottom) == 0:
+        digits = front.removeprefix("-")
+        if not is_digits(digits) or not is_digits(bottom) or integer_of(bottom) == 0:
             raise BadText()
-        ratio = cls(int(top), int(bottom))
+        top = -integer_of(digits) if front.startswith("-") else integer_of(digits)
+        ratio = cls(top, integer_of(bottom))
         # A Ratio has just one text: this refuses what is not in lowest terms, and spare signs and zeros.
         if str(ratio) != text:
             raise BadText()
         return ratio
-
-
-def is_digits(text):
-    """Whether a string is one or more digits from 0 to 9."""
-    return text != "" and all([sign in DIGITS for sign in text])
 
 
 def is_number(value):

@@ -1,5 +1,6 @@
 """Records: on how many days, wet, dry or open, people said which chances."""
 
+from saidchances.decimals import notation
 from saidchances.errors import BadLine, BadLines, BadPeople, BadText, NoCell, NotSaid, UnknownName
 from saidchances.kinds import is_integer, is_list
 from saidchances.naming import WEATHERS, is_weather, is_word
@@ -151,7 +152,7 @@ def counted(lines, places):
 
 def line_text(cell, weather, days):
     """A line of the text of a record."""
-    return " ".join([*[str(chance) for chance in cell], weather, str(days)])
+    return " ".join([*[str(chance) for chance in cell], weather, notation(days)])
 
 
 def line_of(parts):
