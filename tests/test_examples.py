@@ -1,6 +1,8 @@
-"""The examples of the interface, word for word."""
+"""The examples of the interface, word for word, and those of README.md."""
 
+import doctest
 import unittest
+from pathlib import Path
 
 NAMING = '''
 >>> from saidchances.naming import is_weather, is_word
@@ -32,6 +34,66 @@ RECORDS = '''
 ['people ann', '1/4 open 4', '3/4 wet 1', '3/4 open 3']
 >>> crossed.counts("eve", 0)
 raises UnknownName('eve')
+'''
+
+ACTORS = '''
+>>> from saidchances.actors import acts_on, actor_of, gain, loss, score_loss, squares
+>>> from saidchances.ratios import Ratio
+>>> from saidchances.records import Record
+>>> days = Record.read("people ann bob\\n1/4 1/2 wet 1\\n1/4 1/2 dry 3\\n3/4 1/2 wet 3\\n3/4 1/2 dry 1")
+>>> half = (Ratio(1, 2), True)
+>>> [acts_on(half, Ratio(1, 2)), str(loss(days, "ann", half)), str(loss(days, "bob", half)), str(squares(days, "ann")), str(squares(days, "bob"))]
+[True, '1', '2', '3/2', '2']
+>>> str(score_loss(days, "ann", [(half, 2), ((Ratio(9, 10), False), 5)]))
+'4'
+>>> [str(actor_of([4, 0, 0, 4], False)[0][0]), str(actor_of([4, 0, 0, 4], False)[1]), str(gain(days, "ann", [4, 0, 0, 4], False))]
+['1/2', '8', '24']
+'''
+
+CURVES = '''
+>>> from saidchances.curves import area, area_between, curve, loss_on, told_back, worst_bars
+>>> from saidchances.ratios import Ratio
+>>> from saidchances.records import Record
+>>> days = Record.read("people ann bob\\n1/4 1/2 wet 1\\n1/4 1/2 dry 3\\n3/4 1/2 wet 3\\n3/4 1/2 dry 1")
+>>> [[str(number) for number in row] for row in curve(days, "ann")]
+[['0', '0', '0'], ['1/4', '1', '1'], ['3/4', '1', '1'], ['1', '0', '0']]
+>>> [[str(number) for number in row] for row in curve(days, "bob")]
+[['0', '0', '0'], ['1/2', '2', '2'], ['1', '0', '0']]
+>>> [str(loss_on(curve(days, "ann"), (Ratio(9, 10), True))), str(area(days, "ann")), str(area_between(days, "bob", 0, Ratio(1, 2)))]
+['2/5', '3/4', '1/2']
+>>> [(str(chance), wet, dry) for chance, wet, dry in told_back(curve(days, "ann"), 4, 4)]
+[('1/4', 1, 3), ('3/4', 3, 1)]
+>>> [str(worst_bars(days, "ann")[0]), [str(bar) for bar in worst_bars(days, "ann")[1]]]
+['1', ['1/4', '3/4']]
+>>> area_between(days, "ann", Ratio(1, 2), 0)
+raises BadChance(0)
+'''
+
+COMPARED = '''
+>>> from saidchances.compared import best_stretches, never_worse, stretches, worse_actor
+>>> from saidchances.records import Record
+>>> days = Record.read("people ann bob\\n1/4 1/2 wet 1\\n1/4 1/2 dry 3\\n3/4 1/2 wet 3\\n3/4 1/2 dry 1")
+>>> [never_worse(days, "ann", "bob"), worse_actor(days, "ann", "bob"), never_worse(days, "bob", "ann")]
+[True, None, False]
+>>> [(str(low), str(high), word) for low, high, word in stretches(days, "bob", "ann")]
+[('0', '1/4', 'alike'), ('1/4', '3/4', 'worse'), ('3/4', '1', 'alike')]
+>>> [(str(low), str(high), names) for low, high, names in best_stretches(days)]
+[('0', '1/4', ['ann', 'bob']), ('1/4', '3/4', ['ann']), ('3/4', '1', ['ann', 'bob'])]
+'''
+
+RIGHTED = '''
+>>> from saidchances.ratios import Ratio
+>>> from saidchances.records import Record
+>>> from saidchances.righted import led, parts, put_right, reliable, shares, square_parts, unreliable
+>>> days = Record.read("people cid\\n1/4 wet 1\\n1/4 dry 1\\n1/2 dry 2\\n3/4 wet 2")
+>>> [[str(chance), str(share)] for chance, share in shares(days, "cid")]
+[['1/4', '1/2'], ['1/2', '0'], ['3/4', '1']]
+>>> [reliable(days, "cid"), [str(chance) for chance in unreliable(days, "cid")], str(put_right(days, "cid")).split("\\n")]
+[False, ['1/4', '1/2', '3/4'], ['people cid', '0 dry 2', '1/2 wet 1', '1/2 dry 1', '1 wet 2']]
+>>> [[str(part) for part in parts(days, "cid", (Ratio(1, 2), True))], [str(part) for part in square_parts(days, "cid")]]
+[['3/2', '1', '1'], ['3/2', '1', '3/4']]
+>>> str(led(days, "cid", [(Ratio(1, 4), 0), (Ratio(1, 2), 0), (Ratio(3, 4), 1)])).split("\\n")
+['people cid', '0 wet 1', '0 dry 3', '1 wet 2']
 '''
 
 
@@ -73,6 +135,25 @@ class Examples(unittest.TestCase):
 
     def test_records(self):
         self.run_example(RECORDS)
+
+    def test_actors(self):
+        self.run_example(ACTORS)
+
+    def test_curves(self):
+        self.run_example(CURVES)
+
+    def test_compared(self):
+        self.run_example(COMPARED)
+
+    def test_righted(self):
+        self.run_example(RIGHTED)
+
+    def test_readme(self):
+        text = (Path(__file__).resolve().parent.parent / "README.md").read_text(encoding="ascii")
+        # An answer would end with the fence behind it otherwise.
+        test = doctest.DocTestParser().get_doctest(text.replace("```", ""), {}, "README.md", None, 0)
+        self.assertGreater(len(test.examples), 0)
+        self.assertEqual(doctest.DocTestRunner(verbose=False).run(test).failed, 0)
 
 
 if __name__ == "__main__":

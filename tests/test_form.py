@@ -1,6 +1,7 @@
 """Where the interface's names are defined, and what can be counted of the form of the package's files."""
 
 import ast
+import builtins
 import unittest
 from pathlib import Path
 
@@ -14,6 +15,12 @@ INTERFACE = {
     "naming.py": ["is_word", "is_weather"],
     "ratios.py": ["Ratio", "is_number", "is_chance", "as_ratio", "total", "least", "greatest"],
     "records.py": ["Record"],
+    "actors.py": ["is_actor", "is_score", "acts_on", "loss", "score_loss", "squares", "gain", "actor_of"],
+    "curves.py": ["curve", "loss_on", "area", "area_between", "told_back", "worst_bars"],
+    "compared.py": [
+        "never_worse", "worse_actor", "is_worse_actor", "alike", "stretches", "best_stretches", "never_best",
+    ],
+    "righted.py": ["shares", "reliable", "unreliable", "led", "put_right", "parts", "score_parts", "square_parts"],
 }
 METHODS = {
     ("ratios.py", "Ratio"): [
@@ -26,6 +33,16 @@ METHODS = {
     ],
 }
 LIBRARY = {"math", "heapq", "itertools", "collections"}
+BUILTINS = set(
+    "len range enumerate zip min max sum abs sorted reversed int str bool bytes list tuple dict set frozenset isinstance "
+    "ord repr any all divmod pow Exception ValueError TypeError KeyError IndexError LookupError ZeroDivisionError "
+    "NotImplemented property staticmethod classmethod".split(" ")
+)
+# What the language of the package leaves out, or allows in places that this package does without.
+BARRED = (
+    ast.Lambda, ast.GeneratorExp, ast.Yield, ast.YieldFrom, ast.Global, ast.Nonlocal, ast.With, ast.Delete, ast.Await,
+    ast.AsyncFunctionDef, ast.Div, ast.MatMult, ast.Set, ast.SetComp, ast.AnnAssign, ast.NamedExpr, ast.Assert,
+)
 
 
 def tree(path):
@@ -61,6 +78,46 @@ class Form(unittest.TestCase):
             for node in ast.walk(tree(path)):
                 if isinstance(node, ast.FunctionDef):
                     self.assertLessEqual(node.end_lineno - node.lineno + 1, 40, node.name)
+
+    def test_what_the_language_leaves_out(self):
+        for path in PACKAGE.glob("*.py"):
+            for node in ast.walk(tree(path)):
+                self.assertNotIsInstance(node, BARRED, path)
+                if isinstance(node, ast.Constant):
+                    self.assertIn(type(node.value), (int, str, bool, type(None)), path)
+                    self.assertNotIn("%", node.value if isinstance(node.value, str) else "", path)
+                # The interpreter's shell, and what tests its answers, keep the last one as the builtin _.
+                if isinstance(node, ast.Name) and node.id != "_" and hasattr(builtins, node.id):
+                    self.assertIn(node.id, BUILTINS, path)
+                    self.assertIsInstance(node.ctx, ast.Load, path)
+
+    def test_names_are_bound_once(self):
+        for path in PACKAGE.glob("*.py"):
+            nodes = list(ast.walk(tree(path)))
+            taken = [name.name for node in nodes if isinstance(node, ast.ImportFrom) for name in node.names]
+            taken += [node.name for node in nodes if isinstance(node, ast.ClassDef)]
+            self.assertEqual(len(taken), len(set(taken)), path)
+            bound = [node.id for node in nodes if isinstance(node, ast.Name) and isinstance(node.ctx, ast.Store)]
+            bound += [node.arg for node in nodes if isinstance(node, ast.arg)]
+            bound += [node.name for node in nodes if isinstance(node, ast.FunctionDef)]
+            self.assertEqual([name for name in bound if name in taken], [], path)
+
+    def test_exponents_are_small_literals(self):
+        for path in PACKAGE.glob("*.py"):
+            for node in ast.walk(tree(path)):
+                if isinstance(node, ast.BinOp) and isinstance(node.op, ast.Pow):
+                    self.assertIn(ast.literal_eval(node.right), range(65), path)
+
+    def test_no_two_files_import_from_each_other(self):
+        needs = {}
+        for path in PACKAGE.glob("*.py"):
+            modules = [node.module for node in ast.walk(tree(path)) if isinstance(node, ast.ImportFrom)]
+            needs[path.stem] = [module.split(".")[1] for module in modules if "." in module]
+        while needs:
+            ready = [name for name, others in needs.items() if not any(other in needs for other in others)]
+            self.assertNotEqual(ready, [], sorted(needs))
+            for name in ready:
+                del needs[name]
 
     def test_imports_are_of_the_package_or_the_few_listed_modules(self):
         for path in PACKAGE.glob("*.py"):

@@ -1,0 +1,105 @@
+"""Closed records, and what comes of them day by day, told with Python's own fractions."""
+
+from fractions import Fraction
+from random import Random
+
+from saidchances.ratios import Ratio
+from saidchances.records import Record
+
+NAMES = ["ann", "bob", "cid"]
+
+
+def fraction(number):
+    """The same number in Python's own terms."""
+    return Fraction(number.top, number.bottom) if isinstance(number, Ratio) else Fraction(number)
+
+
+def ratio(number):
+    """The same number as a Ratio."""
+    return Ratio(Fraction(number).numerator, Fraction(number).denominator)
+
+
+def fractions(value):
+    """A value with all Ratios in its lists and tuples as Python's own fractions."""
+    if isinstance(value, (list, tuple)):
+        return type(value)(fractions(item) for item in value)
+    return fraction(value) if isinstance(value, Ratio) else value
+
+
+def given(random, number):
+    """A number as a caller may pass it: an integer, or a Ratio."""
+    if Fraction(number).denominator == 1 and random.random() < 0.5:
+        return int(number)
+    return ratio(number)
+
+
+def random_days(random, names, cells):
+    """A list with a tuple (said, wet) for each day, where said are chances by the names."""
+    bottom = random.choice([1, 2, 3, 4, 6, 8])
+    chances = random.sample([Fraction(top, bottom) for top in range(bottom + 1)], min(bottom + 1, random.randint(1, 5)))
+    days = []
+    for _ in range(cells):
+        said = {name: random.choice(chances) for name in names}
+        days += [(said, random.random() < 0.5)] * random.randint(1, 3)
+    return days
+
+
+def record_of(random, days):
+    """The record of days, its people and lines in any order."""
+    names = list(days[0][0])
+    random.shuffle(names)
+    lines = [([given(random, said[name]) for name in names], "wet" if wet else "dry", 1) for said, wet in days]
+    random.shuffle(lines)
+    return Record(names, lines)
+
+
+def random_records(seed, many, people=(1, 2, 3), cells=8):
+    """Tuples (record, days) of many closed records, the same ones for the same seed."""
+    random = Random(seed)
+    for _ in range(many):
+        days = random_days(random, NAMES[:random.choice(people)], random.randint(1, cells))
+        yield record_of(random, days), days
+
+
+def acted(chance, bar, acts):
+    """Whether an actor acts on a chance."""
+    return chance >= bar if acts else chance > bar
+
+
+def day_loss(chance, wet, bar, acts):
+    """What an actor loses on a day on which a chance is said."""
+    if wet:
+        return 0 if acted(chance, bar, acts) else 1 - bar
+    return bar if acted(chance, bar, acts) else Fraction(0)
+
+
+def lost_on(days, name, bar, acts):
+    """What an actor loses in all by acting on what a person says."""
+    return sum((day_loss(said[name], wet, bar, acts) for said, wet in days), Fraction(0))
+
+
+def counted(days, name):
+    """The tuples (chance, wet, dry) of all chances of a person, ascending."""
+    return [
+        (chance, sum(said[name] == chance and wet for said, wet in days),
+         sum(said[name] == chance and not wet for said, wet in days))
+        for chance in sorted({said[name] for said, _ in days})
+    ]
+
+
+def bars_near(days):
+    """Bars at, between and beside all chances said, from 0 to 1."""
+    ends = sorted({Fraction(0), Fraction(1)} | {chance for said, _ in days for chance in said.values()})
+    between = [low + (high - low) * part for low, high in zip(ends, ends[1:]) for part in (Fraction(1, 3), Fraction(4, 7))]
+    return sorted(ends + between)
+
+
+def as_days(record):
+    """The days of a closed record."""
+    names = record.people()
+    days = []
+    for cell in record.cells():
+        said = dict(zip(names, fractions(cell)))
+        wet, dry, _ = record.days(cell)
+        days += [(said, True)] * wet + [(said, False)] * dry
+    return days
