@@ -3,6 +3,7 @@
 from itertools import combinations
 
 from saidchances.actors import is_actor
+from saidchances.lines import crossing
 from saidchances.ratios import ascending, least
 from saidchances.tallies import bars_of, check_closed, lost, tally_of
 
@@ -96,10 +97,8 @@ def crossings(tallies, low, high):
     lines = [(lost(rows, (low, False)), lost(rows, (high, True))) for rows in tallies]
     found = []
     for one, other in combinations(lines, 2):
-        start, end = one[0] - other[0], one[1] - other[1]
-        if (start * end).below(0):
-            found.append((low + (high - low) * start.over(start - end),))
-    return [row[0] for row in ascending(found)]
+        found.extend(crossing(low, high, one[0] - other[0], one[1] - other[1]))
+    return [row[0] for row in ascending([(bar,) for bar in found])]
 
 
 def losses_between(tallies, low, high):

@@ -4,15 +4,17 @@ from saidchances.actors import is_actor, is_score
 from saidchances.errors import BadActor, BadPairs, BadScore
 from saidchances.kinds import is_list
 from saidchances.naming import WEATHERS
-from saidchances.ratios import Ratio, is_chance
+from saidchances.ratios import is_chance
 from saidchances.records import Record
-from saidchances.tallies import check_closed, dry_days, lost, lost_by_score, squares_of, tally_of, wet_days
+from saidchances.tallies import (
+    check_closed, dry_days, lost, lost_by_score, right_rows, share_of, squares_of, tally_of, wet_days,
+)
 
 
 def shares(record, name):
     """The tuples (chance, share) of all chances that a person said, ascending."""
     check_closed(record, [name])
-    return [(chance, Ratio(wet, wet + dry)) for chance, wet, dry in tally_of(record, name)]
+    return [(row[0], share_of([row])) for row in tally_of(record, name)]
 
 
 def reliable(record, name):
@@ -87,10 +89,8 @@ def square_parts(record, name):
 def three_tallies(record, name):
     """The tallies with the share of all days in the place of each chance, with its own share, and as said."""
     rows = tally_of(record, name)
-    wet, dry = wet_days(rows), dry_days(rows)
-    even = [(Ratio(wet, wet + dry), wet, dry)]
-    righted = [(Ratio(wet_then, wet_then + dry_then), wet_then, dry_then) for _, wet_then, dry_then in rows]
-    return [even, righted, rows]
+    even = [(share_of(rows), wet_days(rows), dry_days(rows))]
+    return [even, right_rows(rows), rows]
 
 
 def parts_of(losses):

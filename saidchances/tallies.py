@@ -33,6 +33,17 @@ def dry_days(rows):
     return sum([dry for _, _, dry in rows])
 
 
+def share_of(rows):
+    """The share of the wet days among all days of a tally."""
+    wet = wet_days(rows)
+    return Ratio(wet, wet + dry_days(rows))
+
+
+def right_rows(rows):
+    """A tally with the share of each chance in its place."""
+    return [(share_of([row]), row[1], row[2]) for row in rows]
+
+
 def bars_of(tallies):
     """The bars 0, 1, and all chances of some tallies, ascending, each once."""
     said = [(row[0],) for rows in tallies for row in rows]
@@ -47,10 +58,14 @@ def is_acting(actor, chance):
 
 def lost(rows, actor):
     """What an actor loses in all by acting on what a tally says."""
-    bar = as_ratio(actor[0])
-    dry = total([row[2] for row in rows if is_acting(actor, row[0])])
-    wet = total([row[1] for row in rows if not is_acting(actor, row[0])])
-    return bar * dry + (Ratio(1) - bar) * wet
+    return lost_by_cut(rows, actor[0], actor)
+
+
+def lost_by_cut(rows, bar, cut):
+    """What is lost by a bar in acting as another actor, the cut, does on what a tally says."""
+    dry = total([row[2] for row in rows if is_acting(cut, row[0])])
+    wet = total([row[1] for row in rows if not is_acting(cut, row[0])])
+    return as_ratio(bar) * dry + (Ratio(1) - bar) * wet
 
 
 def lost_by_score(rows, score):

@@ -1,6 +1,7 @@
 """Closed records, and what comes of them day by day, told with Python's own fractions."""
 
 from fractions import Fraction
+from itertools import product
 from random import Random
 
 from saidchances.ratios import Ratio
@@ -103,3 +104,73 @@ def as_days(record):
         wet, dry, _ = record.days(cell)
         days += [(said, True)] * wet + [(said, False)] * dry
     return days
+
+
+def random_lines(random, names, cells, most=3, chances=None):
+    """Lines (said by name, weather, days) of all three weathers."""
+    if chances is None:
+        bottom = random.choice([1, 2, 2, 3, 4, 4])
+        chances = [Fraction(top, bottom) for top in range(bottom + 1)]
+    lines = []
+    for _ in range(cells):
+        said = {name: random.choice(chances) for name in names}
+        for weather in random.sample(["wet", "dry", "open", "open"], random.randint(1, 3)):
+            lines.append((said, weather, random.randint(1, most)))
+    return lines
+
+
+def record_by(random, lines):
+    """The record of lines as random_lines tells them, people and lines in any order."""
+    names = list(lines[0][0])
+    random.shuffle(names)
+    rows = [([given(random, said[name]) for name in names], weather, days) for said, weather, days in lines]
+    random.shuffle(rows)
+    return Record(names, rows)
+
+
+def hidden_lines(random, names, cells, most=4, keep=0.4, wets=(0, 1)):
+    """Lines by which all people come true, by outcomes that are partly told: the chances are what came of the days."""
+    marks = [[random.randrange(max(1, cells // 2)) for _ in names] for _ in range(cells)]
+    days = [(tuple(mark), random.choice(wets)) for mark in marks for _ in range(random.randint(1, most))]
+    shares = []
+    for place, _ in enumerate(names):
+        found = {}
+        for mark, wet in days:
+            found.setdefault(mark[place], []).append(wet)
+        shares.append({mark: Fraction(sum(told), len(told)) for mark, told in found.items()})
+    lines = []
+    for mark, wet in days:
+        said = {name: shares[place][mark[place]] for place, name in enumerate(names)}
+        told = wet in (0, 1) and random.random() < keep
+        lines.append((said, ["dry", "wet"][wet] if told else "open", 1))
+    return lines
+
+
+def cells_of(record):
+    """Tuples (cell, wet, dry, open) of a record, with Python's own fractions."""
+    return [(fractions(cell), *record.days(cell)) for cell in record.cells()]
+
+
+def dues_by(record):
+    """What is due, by the place of a person and a chance."""
+    found = {}
+    for cell, wet, dry, untold in cells_of(record):
+        for place, chance in enumerate(cell):
+            found[(place, chance)] = found.get((place, chance), 0) + chance * (wet + dry + untold)
+    return found
+
+
+def sums_by(record, outcomes):
+    """What outcomes sum to, by the place of a person and a chance."""
+    found = {}
+    for (cell, *_), number in zip(cells_of(record), outcomes):
+        for place, chance in enumerate(cell):
+            found[(place, chance)] = found.get((place, chance), 0) + number
+    return found
+
+
+def all_whole(record):
+    """All outcomes in whole days by which all come true, cell by cell."""
+    ranges = [range(wet, wet + untold + 1) for _, wet, _, untold in cells_of(record)]
+    dues = dues_by(record)
+    return [list(many) for many in product(*ranges) if sums_by(record, many) == dues]

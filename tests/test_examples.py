@@ -96,6 +96,69 @@ RIGHTED = '''
 ['people cid', '0 wet 1', '0 dry 3', '1 wet 2']
 '''
 
+RISING = '''
+>>> from saidchances.ratios import Ratio
+>>> from saidchances.records import Record
+>>> from saidchances.rising import best_cut, blocks, is_blocks, is_rising, order_part, risen
+>>> days = Record.read("people cid\\n1/4 wet 1\\n1/4 dry 1\\n1/2 dry 2\\n3/4 wet 2")
+>>> [[[str(chance) for chance in chances], str(share)] for chances, share in blocks(days, "cid")]
+[[['1/4', '1/2'], '1/4'], [['3/4'], '1']]
+>>> [is_blocks(days, "cid", blocks(days, "cid")), is_rising([(0, 1), (Ratio(1, 2), 1)]), is_rising([(0, 1), (Ratio(1, 2), 0)])]
+[True, True, False]
+>>> str(risen(days, "cid")).split("\\n")
+['people cid', '1/4 wet 1', '1/4 dry 3', '1 wet 2']
+>>> half = (Ratio(1, 2), True)
+>>> [str(best_cut(days, "cid", half)[0]), str(order_part(days, "cid", half)), str(order_part(days, "cid", (Ratio(1, 5), False)))]
+['1/2', '0', '2/5']
+'''
+
+HULLS = '''
+>>> from saidchances.hulls import alarm_area, alarms, hull, hull_area, hull_height, least_by_hull, ranked
+>>> from saidchances.ratios import Ratio
+>>> from saidchances.records import Record
+>>> days = Record.read("people cid\\n1/4 wet 1\\n1/4 dry 1\\n1/2 dry 2\\n3/4 wet 2")
+>>> [alarms(days, "cid"), hull(days, "cid")]
+[[(0, 0), (0, 2), (2, 2), (3, 3)], [(0, 0), (0, 2), (3, 3)]]
+>>> [str(hull_height(days, "cid", 1)), str(least_by_hull(days, "cid", Ratio(1, 2))), ranked(days, "cid")]
+['7/3', '1/2', (6, 1, 2)]
+>>> [str(alarm_area(days, "cid")), str(hull_area(days, "cid"))]
+['13/2', '15/2']
+>>> hull_height(days, "cid", 4)
+raises BadNumber(4)
+'''
+
+SHARPER = '''
+>>> from saidchances.ratios import Ratio
+>>> from saidchances.records import Record
+>>> from saidchances.sharper import common, heights, is_passing, joined, loser, passing, profile, profile_loss, says_more
+>>> days = Record.read("people ann bob\\n1/4 1/2 wet 1\\n1/4 1/2 dry 3\\n3/4 1/2 wet 3\\n3/4 1/2 dry 1")
+>>> ann, bob = profile(days, "ann"), profile(days, "bob")
+>>> [[[str(number) for number in row] for row in passing(ann, bob)], passing(bob, ann), loser(ann, bob)]
+[[['1/4', '1/2', '4'], ['3/4', '1/2', '4']], None, None]
+>>> [says_more(ann, bob), says_more(bob, ann), is_passing(ann, bob, passing(ann, bob)), str(profile_loss(bob, (Ratio(1, 2), False)))]
+[True, False, True, '2']
+>>> one, other = [(0, 1), (Ratio(1, 2), 3)], [(Ratio(1, 4), 3), (Ratio(3, 4), 1)]
+>>> [[str(chance), str(number)] for chance, number in joined(one, other)]
+[['0', '1'], ['3/8', '2'], ['3/4', '1']]
+>>> [[str(chance), str(number)] for chance, number in common(one, other)]
+[['1/4', '2'], ['1/2', '2']]
+>>> [[str(height) for height in heights(one, [0, Ratio(1, 4), 1])], says_more(one, other), says_more(one, [(Ratio(3, 8), 4)])]
+[['3/2', '3/4', '0'], False, True]
+>>> says_more(ann, [(Ratio(1, 2), 7)])
+raises UnlikeProfiles()
+'''
+
+TWOS = '''
+>>> from saidchances.records import Record
+>>> from saidchances.twos import barring, is_barring, whole_outcomes, whole_ways
+>>> crossed = Record.read("people ann bob\\n1/4 3/4 open 4\\n3/4 1/4 open 4")
+>>> [whole_outcomes(crossed), is_barring(crossed, ("ann", [crossed.said("ann")[1]], [crossed.said("bob")[0]]))]
+[None, True]
+>>> mixed = Record.read("people ann bob\\n1/4 1/4 open 2\\n1/4 3/4 open 2\\n3/4 1/4 open 2\\n3/4 3/4 open 2")
+>>> [barring(mixed), whole_outcomes(mixed), whole_ways(mixed)]
+[None, [0, 1, 1, 2], 1]
+'''
+
 
 def steps(example):
     """The tuples (statement, what the example shows for it or None)."""
@@ -147,6 +210,18 @@ class Examples(unittest.TestCase):
 
     def test_righted(self):
         self.run_example(RIGHTED)
+
+    def test_rising(self):
+        self.run_example(RISING)
+
+    def test_hulls(self):
+        self.run_example(HULLS)
+
+    def test_sharper(self):
+        self.run_example(SHARPER)
+
+    def test_twos(self):
+        self.run_example(TWOS)
 
     def test_readme(self):
         text = (Path(__file__).resolve().parent.parent / "README.md").read_text(encoding="ascii")

@@ -21,6 +21,12 @@ INTERFACE = {
         "never_worse", "worse_actor", "is_worse_actor", "alike", "stretches", "best_stretches", "never_best",
     ],
     "righted.py": ["shares", "reliable", "unreliable", "led", "put_right", "parts", "score_parts", "square_parts"],
+    "rising.py": ["is_rising", "is_blocks", "blocks", "risen", "best_cut", "order_part"],
+    "hulls.py": ["alarms", "hull", "hull_height", "least_by_hull", "alarm_area", "hull_area", "ranked"],
+    "sharper.py": [
+        "is_profile", "says_more", "is_passing", "profile", "joined", "common", "profile_loss", "loser", "passing", "heights",
+    ],
+    "twos.py": ["barring", "whole_outcomes", "is_barring", "is_whole_outcomes", "whole_ways"],
 }
 METHODS = {
     ("ratios.py", "Ratio"): [

@@ -2,7 +2,7 @@
 
 import unittest
 
-from saidchances import actors, compared, curves, righted
+from saidchances import actors, compared, curves, hulls, righted, rising, sharper
 from saidchances.errors import OpenDays, UnknownName
 from saidchances.ratios import Ratio
 from saidchances.records import Record
@@ -18,6 +18,10 @@ FUNCTIONS = [
     (righted.shares, 1, []), (righted.reliable, 1, []), (righted.unreliable, 1, []), (righted.led, 1, [None]),
     (righted.put_right, 1, []), (righted.parts, 1, [None]), (righted.score_parts, 1, [None]),
     (righted.square_parts, 1, []),
+    (rising.blocks, 1, []), (rising.is_blocks, 1, [None]), (rising.risen, 1, []), (rising.best_cut, 1, [None]),
+    (rising.order_part, 1, [None]), (hulls.alarms, 1, []), (hulls.hull, 1, []), (hulls.hull_height, 1, [None]),
+    (hulls.least_by_hull, 1, [None]), (hulls.ranked, 1, []), (hulls.alarm_area, 1, []), (hulls.hull_area, 1, []),
+    (sharper.profile, 1, []),
 ]
 
 
@@ -54,14 +58,17 @@ class Refusals(unittest.TestCase):
         self.assertIs(caught.exception.name, value)
 
     def test_closed_records_and_known_names(self):
-        record = Record(["ann", "bob"], [([HALF, 0], "wet", 1), ([0, 0], "dry", 2)])
+        record = Record(["ann", "bob"], [([HALF, Ratio(1, 3)], "wet", 1), ([0, Ratio(1, 3)], "dry", 2)])
         good = {
             actors.loss: [(HALF, True)], actors.score_loss: [[((HALF, True), 1)]], actors.gain: [[1, 0, 0, 1], True],
             curves.area_between: [0, 1], compared.is_worse_actor: [None], righted.led: [[(0, 0), (HALF, 1)]],
             righted.parts: [(HALF, True)], righted.score_parts: [[((HALF, True), 1)]],
+            rising.is_blocks: [None], rising.best_cut: [(HALF, True)], rising.order_part: [(HALF, True)],
+            hulls.hull_height: [1], hulls.least_by_hull: [HALF],
         }
         for function, many, _ in FUNCTIONS:
-            function(record, *["ann", "bob"][:many], *good.get(function, []))
+            names = ["bob", "ann"] if function == sharper.profile else ["ann", "bob"]
+            function(record, *names[:many], *good.get(function, []))
 
     def test_records_stay(self):
         record = Record(["ann", "bob"], [([HALF, 0], "wet", 1), ([0, 0], "dry", 2)])
