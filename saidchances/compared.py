@@ -1,7 +1,5 @@
 """People compared for all actors: who is never worse, and between which bars."""
 
-from itertools import combinations
-
 from saidchances.actors import is_actor
 from saidchances.lines import crossing
 from saidchances.ratios import ascending, least
@@ -95,8 +93,9 @@ def even_parts(tallies):
 def crossings(tallies, low, high):
     """The bars between two neighbouring ones at which the losses of two tallies cross, ascending."""
     lines = [(lost(rows, (low, False)), lost(rows, (high, True))) for rows in tallies]
+    pairs = [(one, other) for at, one in enumerate(lines) for other in lines[at + 1:]]
     found = []
-    for one, other in combinations(lines, 2):
+    for one, other in pairs:
         found.extend(crossing(low, high, one[0] - other[0], one[1] - other[1]))
     return [row[0] for row in ascending([(bar,) for bar in found])]
 

@@ -128,10 +128,10 @@ def record_by(random, lines):
     return Record(names, rows)
 
 
-def hidden_lines(random, names, cells, most=4, keep=0.4, wets=(0, 1)):
+def hidden_lines(random, names, cells, most=4, keep=0.4, wets=(0, 1), marks=None):
     """Lines by which all people come true, by outcomes that are partly told: the chances are what came of the days."""
-    marks = [[random.randrange(max(1, cells // 2)) for _ in names] for _ in range(cells)]
-    days = [(tuple(mark), random.choice(wets)) for mark in marks for _ in range(random.randint(1, most))]
+    drawn = [[random.randrange(marks or max(1, cells // 2)) for _ in names] for _ in range(cells)]
+    days = [(tuple(mark), random.choice(wets)) for mark in drawn for _ in range(random.randint(1, most))]
     shares = []
     for place, _ in enumerate(names):
         found = {}
@@ -174,3 +174,77 @@ def all_whole(record):
     ranges = [range(wet, wet + untold + 1) for _, wet, _, untold in cells_of(record)]
     dues = dues_by(record)
     return [list(many) for many in product(*ranges) if sums_by(record, many) == dues]
+
+
+def solution(claims, fixed, free):
+    """The only numbers for free cells by which the claims (cells, due) come true, or None; the others are fixed."""
+    rows = []
+    for inside, due in claims:
+        rest = due - sum(fixed[at] for at in inside if at in fixed)
+        rows.append([Fraction(at in inside) for at in free] + [Fraction(rest)])
+    for column in range(len(free)):
+        at = next((at for at in range(column, len(rows)) if rows[at][column]), None)
+        if at is None:
+            return None
+        rows[column], rows[at] = rows[at], rows[column]
+        rows[column] = [number / rows[column][column] for number in rows[column]]
+        for other in range(len(rows)):
+            if other != column and rows[other][column]:
+                times = rows[other][column]
+                rows[other] = [mine - times * theirs for mine, theirs in zip(rows[other], rows[column])]
+    if any(row[-1] for row in rows[len(free):]):
+        return None
+    return {at: rows[place][-1] for place, at in enumerate(free)}
+
+
+def ends_between(record, marks):
+    """All outcomes by which all come true, and which are told by the cells that have one of their marks."""
+    cells = cells_of(record)
+    claims = [
+        ([at for at, (cell, *_) in enumerate(cells) if cell[place] == chance], due)
+        for (place, chance), due in dues_by(record).items()
+    ]
+    found = set()
+    for chosen in product(*[[None, *sorted(set(told))] for told in marks]):
+        fixed = {at: Fraction(mark) for at, mark in enumerate(chosen) if mark is not None}
+        free = [at for at in range(len(cells)) if at not in fixed]
+        told = solution(claims, fixed, free)
+        if told is not None:
+            numbers = tuple({**fixed, **told}[at] for at in range(len(cells)))
+            if all(min(ends) <= number <= max(ends) for number, ends in zip(numbers, marks)):
+                found.add(numbers)
+    return sorted(found)
+
+
+def corners_of(record):
+    """The corners of all outcomes by which all people come true."""
+    return ends_between(record, [(wet, wet + untold) for _, wet, _, untold in cells_of(record)])
+
+
+def gain_by(record, stakes):
+    """The sure gain of stakes, day by day."""
+    said = [sorted({cell[place] for cell, *_ in cells_of(record)}) for place in range(len(stakes))]
+    tables = [dict(zip(chances, row)) for chances, row in zip(said, stakes)]
+    gain = Fraction(0)
+    for cell, wet, dry, untold in cells_of(record):
+        tickets = [(tables[place][chance], chance) for place, chance in enumerate(cell)]
+        if_dry = -sum(many * chance for many, chance in tickets)
+        if_wet = if_dry + sum(many for many, _ in tickets)
+        gain += if_wet * wet + if_dry * dry + min(if_wet, if_dry) * untold
+    return gain
+
+
+def random_weather(seed, many, people=(1, 2, 3), cells=5, most=3):
+    """Records by which people come true, and such by which they may not; open, closed, and between."""
+    random = Random(seed)
+    for _ in range(many):
+        names = NAMES[:random.choice(people)]
+        if random.random() < 0.5:
+            wets = random.choice([[0, 1], [0, 1], [0, Fraction(1, 3), 1]])
+            keep = random.choice([0, 0.3, 0.7, 1])
+            lines = hidden_lines(random, names, random.randint(1, cells), most, keep, wets)
+        else:
+            lines = random_lines(random, names, random.randint(1, cells), most)
+            if random.random() < 0.3:
+                lines = [(said, random.choice(["wet", "dry"]), days) for said, _, days in lines]
+        yield record_by(random, lines)

@@ -159,6 +159,65 @@ TWOS = '''
 [None, [0, 1, 1, 2], 1]
 '''
 
+UNSEEN = '''
+>>> from saidchances.ratios import Ratio
+>>> from saidchances.records import Record
+>>> from saidchances.unseen import heard, most_wet, outcomes, sure_gain, winning_stakes
+>>> crossed = Record.read("people ann bob\\n1/4 3/4 open 4\\n3/4 1/4 open 4")
+>>> low, high = Ratio(1, 4), Ratio(3, 4)
+>>> [outcomes(crossed), str(sure_gain(crossed, [[0, -1], [1, 0]]))]
+[None, '2']
+>>> mixed = Record.read("people ann bob\\n1/4 1/4 open 2\\n1/4 3/4 open 2\\n3/4 1/4 open 2\\n3/4 3/4 open 2")
+>>> [winning_stakes(mixed), [str(end) for end in heard(mixed, (low, low))], [str(end) for end in heard(mixed, (low, high))]]
+[None, ['0', '0'], ['1/2', '1/2']]
+>>> wide = Record.read("people ann bob\\n1/4 1/4 open 4\\n1/4 1/2 open 4\\n1/2 1/4 open 4\\n1/2 1/2 open 4")
+>>> [[str(end) for end in heard(wide, (low, low))], str(most_wet(wide, [(low, low), (Ratio(1, 2), Ratio(1, 2))])[0])]
+[['0', '1/2'], '6']
+'''
+
+GAPS = '''
+>>> from saidchances.gaps import changed, gap, groups, is_gap
+>>> from saidchances.records import Record
+>>> crossed = Record.read("people ann bob\\n1/4 3/4 open 4\\n3/4 1/4 open 4")
+>>> [str(gap(crossed)[0]), groups(crossed), is_gap(crossed, gap(crossed))]
+['1/4', ([['ann'], ['bob']], [['ann', 'bob']]), True]
+>>> wrong = Record.read("people ann\\n1/4 wet 3\\n1/4 dry 1\\n1/2 wet 1\\n1/2 dry 1")
+>>> [str(gap(wrong)[0]), str(changed(wrong)[0]), groups(wrong)]
+['1/2', '2', ([], [['ann']])]
+'''
+
+WORDS = '''
+>>> from saidchances.ratios import Ratio
+>>> from saidchances.records import Record
+>>> from saidchances.words import best_weight, distance, few_words, mean, words_needed
+>>> days = Record.read("people ann bob\\n1/4 1/2 wet 1\\n1/4 1/2 dry 3\\n3/4 1/2 wet 3\\n3/4 1/2 dry 1")
+>>> [str(distance(days, "ann", "bob")), str(mean(days, "ann", "bob", Ratio(1, 2))).split("\\n")[0:2], str(best_weight(days, "ann", "bob"))]
+['1/2', ['people mean', '3/8 wet 1'], '1']
+>>> some = Record.read("people cid\\n1/4 wet 1\\n1/4 dry 1\\n1/2 dry 2\\n3/4 wet 2")
+>>> score = [((Ratio(1, 2), True), 1), ((Ratio(1, 4), True), 2)]
+>>> loss, lots = few_words(some, "cid", 2, score)
+>>> [str(loss), [[str(chance) for chance in lot] for lot in lots], words_needed(some, "cid", score, 1), words_needed(some, "cid", score, 0)]
+['1', [['1/2'], ['1/4', '3/4']], 2, None]
+'''
+
+BOOK = '''
+>>> from saidchances.book import Book
+>>> from saidchances.ratios import Ratio
+>>> book = Book(["bob", "ann"])
+>>> low, high = Ratio(1, 4), Ratio(3, 4)
+>>> book.note([high, low], "open", 4)
+>>> book.note([low, high], "open", 4)
+>>> [book.verdict()[0], len(book), str(book.record()).split("\\n")[1]]
+['barred', 2, '1/4 3/4 open 4']
+>>> book.note([low, low], "open", 8)
+>>> book.note([high, high], "wet", 4)
+>>> [book.verdict()[0], [str(number) for number in book.verdict()[1]], [str(end) for end in book.likely([high, low])]]
+['true', ['1', '2', '2', '4'], ['1/2', '1/2']]
+>>> book.undo()
+>>> [len(book), book.tried(len), book.is_verdict(book.verdict())]
+[3, 3, True]
+'''
+
 
 def steps(example):
     """The tuples (statement, what the example shows for it or None)."""
@@ -222,6 +281,18 @@ class Examples(unittest.TestCase):
 
     def test_twos(self):
         self.run_example(TWOS)
+
+    def test_unseen(self):
+        self.run_example(UNSEEN)
+
+    def test_gaps(self):
+        self.run_example(GAPS)
+
+    def test_words(self):
+        self.run_example(WORDS)
+
+    def test_book(self):
+        self.run_example(BOOK)
 
     def test_readme(self):
         text = (Path(__file__).resolve().parent.parent / "README.md").read_text(encoding="ascii")

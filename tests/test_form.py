@@ -27,6 +27,12 @@ INTERFACE = {
         "is_profile", "says_more", "is_passing", "profile", "joined", "common", "profile_loss", "loser", "passing", "heights",
     ],
     "twos.py": ["barring", "whole_outcomes", "is_barring", "is_whole_outcomes", "whole_ways"],
+    "unseen.py": [
+        "outcomes", "winning_stakes", "is_outcomes", "is_winning", "sure_gain", "least_wet", "most_wet", "heard",
+    ],
+    "gaps.py": ["gap", "is_gap", "groups", "changed"],
+    "words.py": ["distance", "best_weight", "mean", "few_words", "words_needed"],
+    "book.py": ["Book"],
 }
 METHODS = {
     ("ratios.py", "Ratio"): [
@@ -36,6 +42,9 @@ METHODS = {
     ("records.py", "Record"): [
         "__init__", "people", "cells", "said", "days", "counts", "closed", "all_days", "due", "of", "__eq__", "__str__",
         "read",
+    ],
+    ("book.py", "Book"): [
+        "__init__", "note", "strike", "tell", "record", "verdict", "is_verdict", "likely", "undo", "tried", "__len__",
     ],
 }
 LIBRARY = {"math", "heapq", "itertools", "collections"}
@@ -96,6 +105,13 @@ class Form(unittest.TestCase):
                 if isinstance(node, ast.Name) and node.id != "_" and hasattr(builtins, node.id):
                     self.assertIn(node.id, BUILTINS, path)
                     self.assertIsInstance(node.ctx, ast.Load, path)
+
+    def test_what_is_iterated_at_once_is_not_starred(self):
+        for path in PACKAGE.glob("*.py"):
+            for node in ast.walk(tree(path)):
+                if isinstance(node, ast.Starred) and isinstance(node.value, ast.Call):
+                    name = getattr(node.value.func, "id", getattr(node.value.func, "attr", None))
+                    self.assertNotIn(name, ("range", "zip", "enumerate", "reversed", "items", "keys", "values"), path)
 
     def test_names_are_bound_once(self):
         for path in PACKAGE.glob("*.py"):

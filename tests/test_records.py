@@ -12,6 +12,11 @@ from tests.values import deep, odd_values
 
 HALF, THIRD, QUARTER = Ratio(1, 2), Ratio(1, 3), Ratio(1, 4)
 WEATHERS = ["wet", "dry", "open"]
+NO_PEOPLE = [
+    [], (), ["ann", "bob", "cid", "eve"], ["ann", "ann"], ["ann", "bob", "ann"], ["Ann"], [""], ["abcdefghi"],
+    ["ann", 5], ["ann", None], "ann", "a", {"ann": 1}, None, 5, True, [["ann"]], ["ann", ["bob"]], [{}],
+    ["ann "], [Ratio(1)], [("ann",)], ["ann", True], ["ann1"], [deep(2000)],
+]
 
 
 def crossed():
@@ -195,12 +200,7 @@ class WrongRecords(unittest.TestCase):
 
     def test_people(self):
         lines = [([HALF], "wet", 1)]
-        bad = [
-            [], (), ["ann", "bob", "cid", "eve"], ["ann", "ann"], ["ann", "bob", "ann"], ["Ann"], [""], ["abcdefghi"],
-            ["ann", 5], ["ann", None], "ann", "a", {"ann": 1}, None, 5, True, [["ann"]], ["ann", ["bob"]], [{}],
-            ["ann "], [Ratio(1)], [("ann",)], ["ann", True], ["ann1"], [deep(2000)],
-        ]
-        for people in bad:
+        for people in NO_PEOPLE:
             self.refused(BadPeople, "people", people, people, lines)
 
     def test_people_of_any_kind(self):

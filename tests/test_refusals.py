@@ -2,7 +2,7 @@
 
 import unittest
 
-from saidchances import actors, compared, curves, hulls, righted, rising, sharper
+from saidchances import actors, compared, curves, hulls, righted, rising, sharper, words
 from saidchances.errors import OpenDays, UnknownName
 from saidchances.ratios import Ratio
 from saidchances.records import Record
@@ -21,7 +21,8 @@ FUNCTIONS = [
     (rising.blocks, 1, []), (rising.is_blocks, 1, [None]), (rising.risen, 1, []), (rising.best_cut, 1, [None]),
     (rising.order_part, 1, [None]), (hulls.alarms, 1, []), (hulls.hull, 1, []), (hulls.hull_height, 1, [None]),
     (hulls.least_by_hull, 1, [None]), (hulls.ranked, 1, []), (hulls.alarm_area, 1, []), (hulls.hull_area, 1, []),
-    (sharper.profile, 1, []),
+    (sharper.profile, 1, []), (words.distance, 2, []), (words.mean, 2, [None]), (words.best_weight, 2, []),
+    (words.few_words, 1, [None, None]), (words.words_needed, 1, [None, None]),
 ]
 
 
@@ -64,7 +65,8 @@ class Refusals(unittest.TestCase):
             curves.area_between: [0, 1], compared.is_worse_actor: [None], righted.led: [[(0, 0), (HALF, 1)]],
             righted.parts: [(HALF, True)], righted.score_parts: [[((HALF, True), 1)]],
             rising.is_blocks: [None], rising.best_cut: [(HALF, True)], rising.order_part: [(HALF, True)],
-            hulls.hull_height: [1], hulls.least_by_hull: [HALF],
+            hulls.hull_height: [1], hulls.least_by_hull: [HALF], words.mean: [HALF],
+            words.few_words: [1, [((HALF, True), 1)]], words.words_needed: [[((HALF, True), 1)], 0],
         }
         for function, many, _ in FUNCTIONS:
             names = ["bob", "ann"] if function == sharper.profile else ["ann", "bob"]
