@@ -72,37 +72,40 @@ def is_winning(record, value):
 def least_wet(record, cells):
     """The least number of wet days of some cells together, and outcomes that have it."""
     chosen = chosen_of(record, cells)
-    days, claims = days_of(record), claims_of(record)
-    lacks = missing(claims, [wet for wet, _, _ in days])
-    found = cheapest(rows_of(claims, len(days)), lacks, [untold for _, _, untold in days], chosen)
-    if found is None:
-        raise NoOutcomes()
-    numbers = [more + wet for more, (wet, _, _) in zip(found, days)]
+    fewest = [wet for wet, _, _ in days_of(record)]
+    found = shortest(record, chosen, missing(claims_of(record), fewest))
+    numbers = [more + wet for more, wet in zip(found, fewest)]
     return sum_of(chosen, numbers), numbers
 
 
 def most_wet(record, cells):
     """The greatest number of wet days of some cells together, and outcomes that have it."""
     chosen = chosen_of(record, cells)
-    days, claims = days_of(record), claims_of(record)
-    # Of the open days, as few of the cells as can be are dry: so the claims have too much at first.
-    lacks = [-lack for lack in missing(claims, [wet + untold for wet, _, untold in days])]
-    found = cheapest(rows_of(claims, len(days)), lacks, [untold for _, _, untold in days], chosen)
+    most = [wet + untold for wet, _, untold in days_of(record)]
+    # Were all open days wet, the claims would have too much: as few open days as can be are dry instead.
+    found = shortest(record, chosen, [-lack for lack in missing(claims_of(record), most)])
+    numbers = [-less + wet for less, wet in zip(found, most)]
+    return sum_of(chosen, numbers), numbers
+
+
+def shortest(record, chosen, lacks):
+    """Open days of all cells, as few as can be of those chosen, by which each claim gets what it lacks."""
+    days = days_of(record)
+    rooms = [untold for _, _, untold in days]
+    found = cheapest(rows_of(claims_of(record), len(days)), lacks, rooms, chosen)
     if found is None:
         raise NoOutcomes()
-    numbers = [-less + wet + untold for less, (wet, _, untold) in zip(found, days)]
-    return sum_of(chosen, numbers), numbers
+    return found
 
 
 def chosen_of(record, cells):
     """For each cell of a record 1 if it is one of the cells of a list, and 0 otherwise."""
-    known = [key_of(cell) for cell in record.cells()]
     if not is_list(cells) or not all([is_row(cell) for cell in cells]):
         raise BadCells(cells)
-    keys = [key_of(cell) for cell in cells]
-    chosen = [int(key in keys) for key in known]
-    # Cells of no record, and doubled ones, are more than what is chosen.
-    if sum(chosen) != len(keys):
+    asked = [key_of(cell) for cell in cells]
+    chosen = [int(key_of(cell) in asked) for cell in record.cells()]
+    # A cell that is not in the record, or a doubled one, is one more than those that are chosen.
+    if sum(chosen) != len(asked):
         raise BadCells(cells)
     return chosen
 
